@@ -1,0 +1,1 @@
+"""Letahead: queues in which some let others ahead."""

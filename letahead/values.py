@@ -1,0 +1,24 @@
+"""What the other files ask of plain values."""
+
+LETTERS = "abcdefghijklmnopqrstuvwxyz"
+LONGEST_NAME = 8
+
+
+def is_name(thing):
+    """Tell whether thing is a NAME: a string of 1 to 8 letters a to z."""
+    if not isinstance(thing, str) or not 1 <= len(thing) <= LONGEST_NAME:
+        return False
+    return all([letter in LETTERS for letter in thing])
+
+
+def tuples(thing):
+    """Return thing with a tuple in the place of each list in it, at any depth."""
+    if isinstance(thing, (list, tuple)):
+        return tuple([tuples(part) for part in thing])
+    return thing
+
+
+def fits(pair, pairs):
+    """Tell whether one Book can have this pair of KINDS and all these pairs, the keys of a dict."""
+    one, other = pair
+    return one != other and (other, one) not in pairs
