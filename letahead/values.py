@@ -22,3 +22,10 @@ def fits(pair, pairs):
     """Tell whether one Book can have this pair of KINDS and all these pairs, the keys of a dict."""
     one, other = pair
     return one != other and (other, one) not in pairs
+
+
+def is_numbers(thing):
+    """Tell whether thing is a tuple of numbers, of which True and False are none."""
+    if not isinstance(thing, tuple):
+        return False
+    return all([isinstance(part, int) and not isinstance(part, bool) for part in thing])

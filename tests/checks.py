@@ -20,10 +20,30 @@ class Checks(unittest.TestCase):
         self.assertIs(caught.exception.__class__, error)
         self.same({name: getattr(caught.exception, name) for name in values}, values)
 
+    def same_each_way(self, wanted, call, **named):
+        """The result is the same by position and by name, and with lists for tuples; what is given stays as it is."""
+        listed = {name: part if name == "thing" else lists(part) for name, part in named.items()}
+        before = repr((named, listed))
+        for given in (named, listed):
+            self.same(call(*given.values()), wanted)
+            self.same(call(**dict(reversed(given.items()))), wanted)
+        self.same(repr((named, listed)), before)
+
+    def refused_each_way(self, error, values, call, **named):
+        """The error is the same by position and by name, and with lists for tuples."""
+        for given in (named, {name: part if name == "thing" else lists(part) for name, part in named.items()}):
+            self.refused(error, values, call, *given.values())
+            self.refused(error, values, call, **dict(reversed(given.items())))
+
     def defined_in(self, module, names):
         """The module itself defines what has these names."""
         for name in names:
             self.assertEqual(getattr(module, name).__module__, module.__name__, name)
+
+
+def lists(thing):
+    """The same with a list in the place of each tuple."""
+    return [lists(part) for part in thing] if isinstance(thing, (list, tuple)) else thing
 
 
 def rows(pool, most):
