@@ -2,7 +2,7 @@
 
 from letahead.errors import BadPair
 from letahead.texts import pairs_from, pairs_text
-from letahead.values import fits, is_name, tuples
+from letahead.values import fits, is_names, tuples
 
 
 class Book:
@@ -56,7 +56,7 @@ def is_pairs(thing):
 
 def is_kind_pair(thing):
     """Tell whether thing is a tuple of two KINDS, like or unlike."""
-    return isinstance(thing, tuple) and len(thing) == 2 and all([is_name(part) for part in thing])
+    return is_names(thing) and len(thing) == 2
 
 
 def lets(book, one, other):

@@ -11,6 +11,11 @@ def is_name(thing):
     return all([letter in LETTERS for letter in thing])
 
 
+def is_names(thing):
+    """Tell whether thing is a tuple of NAMEs, as a QUEUE is."""
+    return isinstance(thing, tuple) and all([is_name(part) for part in thing])
+
+
 def tuples(thing):
     """Return thing with a tuple in the place of each list in it, at any depth."""
     if isinstance(thing, (list, tuple)):
