@@ -46,9 +46,21 @@ def lists(thing):
     return [lists(part) for part in thing] if isinstance(thing, (list, tuple)) else thing
 
 
+def tuples(thing):
+    """The same with a tuple in the place of each list."""
+    return tuple(tuples(part) for part in thing) if isinstance(thing, (list, tuple)) else thing
+
+
 def rows(pool, most):
     """All tuples of at most so many items of the pool."""
     return [row for many in range(most + 1) for row in product(pool, repeat=many)]
+
+
+def numbers_from(seed):
+    """Numbers without an end, in no order that can be seen, and the same each time."""
+    while True:
+        seed = (seed * 1103515245 + 12345) & 0x7FFFFFFF
+        yield seed >> 8
 
 
 def all_pairs(kinds):
