@@ -181,6 +181,52 @@ def check_sets(tree):
                 yield part.lineno, "L24: a set that is not used on the spot"
 
 
+def own_methods(tree):
+    """The methods of the classes of a file."""
+    holders = [part for part in ast.walk(tree) if isinstance(part, ast.ClassDef)]
+    return [part for holder in holders for part in holder.body if isinstance(part, ast.FunctionDef)]
+
+
+def is_property(method):
+    return any(isinstance(mark, ast.Name) and mark.id == "property" for mark in method.decorator_list)
+
+
+def called(node):
+    """The functions of all calls in it."""
+    return [part.func for part in ast.walk(node) if isinstance(part, ast.Call)]
+
+
+def reading_functions(trees):
+    """What properties and operators run: themselves and the own functions that they call, each with its file."""
+    functions = [
+        (path, part) for path, tree in trees.items() for part in tree.body if isinstance(part, ast.FunctionDef)
+    ]
+    found = [
+        (path, part) for path, tree in trees.items() for part in own_methods(tree)
+        if part.name in DUNDERS - {"__init__"} or is_property(part)
+    ]
+    # The list grows while the loop goes over it.
+    for _, reader in found:
+        names = {part.id for part in called(reader) if isinstance(part, ast.Name)}
+        found.extend(pair for pair in functions if pair[1].name in names and pair not in found)
+    return found
+
+
+def check_readers(trees):
+    """What is called is taken by its name, whatever it is called on; so an own method's name tells that it is one."""
+    methods = {part.name for tree in trees.values() for part in own_methods(tree) if not is_property(part)}
+    defined = {name for tree in trees.values() for name in defined_names(tree)} | set().union(*LIBRARY.values())
+    for path, reader in reading_functions(trees):
+        for part in called(reader):
+            if isinstance(part, ast.Attribute) and part.attr in methods:
+                yield path, part.lineno, f"L5: {reader.name}, run by a property or an operator, calls {part.attr}"
+            if isinstance(part, ast.Name) and part.id not in defined | BUILTINS:
+                yield path, part.lineno, f"L5: {reader.name}, run by a property or an operator, calls what it holds"
+        for part in ast.walk(reader):
+            if isinstance(part, ast.Attribute) and not isinstance(part.ctx, ast.Load):
+                yield path, part.lineno, f"L5: {reader.name}, run by a property or an operator, changes {part.attr}"
+
+
 def check_file(path, tree, package, defined, methods, errors):
     text = path.read_text(encoding="utf-8")
     yield from check_lines(path, text)
@@ -210,6 +256,9 @@ def main():
         for line, told in check_file(path, tree, package.name, defined, methods, errors):
             print(f"{path}:{line}: {told}")
             wrong += 1
+    for path, line, told in check_readers(trees):
+        print(f"{path}:{line}: {told}")
+        wrong += 1
     print(f"language: {len(files)} files, {wrong} lines against the rules")
     return 1 if wrong else 0
 

@@ -9,17 +9,17 @@ DIGITS = "0123456789"
 
 def pairs_text(pairs):
     """Return the text of PAIRS."""
-    return "; ".join([f"{one} {other}" for one, other in pairs]) or NOTHING
+    return text_of_pieces([f"{one} {other}" for one, other in pairs], "; ")
 
 
 def queue_text(queue):
     """Return the text of a QUEUE."""
-    return " ".join(queue) or NOTHING
+    return text_of_pieces(queue, " ")
 
 
 def order_text(order):
     """Return the text of an ORDER."""
-    return " ".join([str(person) for person in order]) or NOTHING
+    return text_of_pieces([str(person) for person in order], " ")
 
 
 def pairs_from(text):
@@ -54,6 +54,15 @@ def order_from(text):
             raise BadText(number)
         words[piece] = True
     return tuple([int(word) for word in words])
+
+
+def text_of_pieces(parts, between):
+    """Return the text that has these pieces, with these signs between two of them."""
+    # A property runs this, so it calls nothing by the name join: own methods of that name change their objects.
+    text = ""
+    for part in parts:
+        text = f"{text}{between}{part}"
+    return text[len(between):] or NOTHING
 
 
 def pieces(text, between):

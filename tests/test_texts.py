@@ -63,6 +63,13 @@ class WritingTest(Checks):
         self.same(order_text((0,)), "0")
         self.same(order_text((10, 0, 10 ** 30)), "10 0 1" + 30 * "0")
 
+    def test_long_rows(self):
+        words = [first + second for first in "abcdefghij" for second in "klmnopqrst"]
+        pairs = tuple(sorted((word, word + "x") for word in words))
+        self.same(pairs_text(pairs), "; ".join(" ".join(pair) for pair in pairs))
+        self.same(queue_text(words * 20), " ".join(words * 20))
+        self.same(order_text(tuple(range(2000, -1, -1))), " ".join(str(number) for number in range(2000, -1, -1)))
+
     def test_lists_for_tuples_and_names(self):
         for pairs in ([("a", "b"), ("b", "c")], [["a", "b"], ["b", "c"]], (["a", "b"], ("b", "c"))):
             self.same(pairs_text(pairs=pairs), "a b; b c")
