@@ -14,6 +14,10 @@ class Survey:
         self._kinds = tuples(kinds)
         # Each QUEUE that was asked, with its end.
         self._told = []
+        # The QUEUES whose ends neither were told nor follow, the next one first.
+        self._waiting = tuple([(one, other) for one in self._kinds for other in self._kinds if one != other])
+        # What _waiting was ahead of each end that was told.
+        self._past = []
 
     @property
     def kinds(self):
@@ -28,11 +32,7 @@ class Survey:
     @property
     def ask(self):
         """The next QUEUE whose end is not known; None if there is none."""
-        waiting = [
-            (one, other) for one in self._kinds for other in self._kinds
-            if one != other and not is_known(self._told, one, other)
-        ]
-        return waiting[0] if waiting else None
+        return self._waiting[0] if self._waiting else None
 
     def __len__(self):
         return len(self._told)
@@ -50,24 +50,32 @@ class Survey:
         if not is_numbers(answer) or answer not in (STAYED, TURNED):
             raise BadAnswer(answer)
         self._told.append((queue, answer))
+        self._past.append(self._waiting)
+        self._waiting = still_waiting(self._waiting, answer)
 
     def back(self):
         """Take back that the last end was told; NothingDone() if there is none."""
         if not self._told:
             raise NothingDone()
         self._told.pop()
+        self._waiting = self._past.pop()
 
     def twin(self):
         """Return a Survey equal to this one that shares nothing with it."""
         other = Survey(self._kinds)
         other._told = list(self._told)
+        other._waiting = self._waiting
+        other._past = list(self._past)
         return other
 
 
-def is_known(told, one, other):
-    """Tell whether the end of the QUEUE (one, other) was told or follows from what was told."""
+def still_waiting(waiting, order):
+    """Return the QUEUES of waiting whose ends neither are told nor follow when this is the end of the first one."""
+    if order == STAYED:
+        return waiting[1:]
     # Who is let by the one whom they would let ahead lets them not.
-    return ((one, other), STAYED) in told or ((one, other), TURNED) in told or ((other, one), TURNED) in told
+    one, other = waiting[0]
+    return tuple([queue for queue in waiting[1:] if queue != (other, one)])
 
 
 def surveyed(kinds, asker):

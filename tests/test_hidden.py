@@ -1,5 +1,6 @@
 """Tests of letahead.hidden: [2], [3], [13] and (d) of [1]."""
 
+import sys
 import unittest
 from itertools import product
 
@@ -23,6 +24,23 @@ BAD = [answer for answer in NO_NUMBERS if answer != [0, 1]] + [
 def end_by(pairs, queue):
     """The end of a QUEUE of two, by going on while somebody lets."""
     return [order for order in reached(pairs, queue) if not steps(pairs, queue, order)][0]
+
+
+def calls_in(call):
+    """How many calls are made while this one runs, those of builtins left out."""
+    names = []
+
+    def note(frame, event, _):
+        if event == "call":
+            names.append(frame.f_code.co_name)
+
+    before = sys.getprofile()
+    sys.setprofile(note)
+    try:
+        call()
+    finally:
+        sys.setprofile(before)
+    return len(names)
 
 
 class Told:
@@ -278,6 +296,19 @@ class SurveyedTest(Checks):
     def test_eight_kinds(self):
         for pairs in (ALL_OF_EIGHT, RING, tuple(pair[::-1] for pair in ALL_OF_EIGHT)):
             self.assertLessEqual(len(self.asked(EIGHT, pairs, list)), 56)
+
+    def test_no_work_is_done_again_for_each_end(self):
+        # So many calls for each end that is told, however many ends were told ahead of it.
+        for end in ENDS:
+            for many in range(2, 9):
+                queues = []
+
+                def asker(queue):
+                    queues.append(queue)
+                    return end
+
+                calls = calls_in(lambda: surveyed(EIGHT[:many], asker))
+                self.assertLessEqual(calls, 20 * len(queues) + 20)
 
     def test_bad_answers(self):
         for answer in ((0, 2), (), None, "10", (True, False), (1, 0, 0), 1):
